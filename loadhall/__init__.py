@@ -1,0 +1,1 @@
+"""Loadhall: modules that load one another."""
