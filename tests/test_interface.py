@@ -36,6 +36,50 @@ INTERFACE = {
     "bodies": {
         "read_body": "(text)",
     },
+    "stores": {
+        "Store": "(name)",
+        "Lists": "()",
+    },
+    "forms": {
+        "Forms": "(*, check='stamp')",
+    },
+    "finders": {
+        "Along": "()",
+        "Built": "(bodies)",
+        "Other": "(old, new)",
+        "Barred": "(names)",
+    },
+}
+
+FIND = {"find": "(self, name, places, hall)"}
+
+# of each class its methods, with their arguments as the document lists them
+METHODS = {
+    "stores.Store": {
+        "__len__": "(self)",
+        "put": "(self, name, text, *, pack=False, at=0)",
+        "take": "(self, name, *, at=0)",
+        "entry": "(self, name)",
+        "names": "(self)",
+    },
+    "stores.Lists": {
+        "listed": "(self, store)",
+        "forget": "(self)",
+    },
+    "forms.Forms": {
+        "form": "(self, store, name)",
+        "drop": "(self, store, name)",
+        "stale": "(self, store)",
+    },
+    "finders.Along": FIND,
+    "finders.Built": FIND,
+    "finders.Other": FIND,
+    "finders.Barred": FIND,
+}
+
+# plain values at the outermost level of files
+VALUES = {
+    "forms": {"CHECK": "stamp"},
 }
 
 
@@ -58,6 +102,19 @@ class Interface(unittest.TestCase):
                 if arguments is not None:
                     with self.subTest(file=file, name=name):
                         self.assertEqual(str(inspect.signature(getattr(module, name))), arguments)
+
+    def test_methods_are_defined_in_their_own_class(self):
+        for place, listed in METHODS.items():
+            file, name = place.split(".")
+            methods = vars(getattr(importlib.import_module(f"loadhall.{file}"), name))
+            for method, arguments in listed.items():
+                with self.subTest(place=place, method=method):
+                    self.assertEqual(str(inspect.signature(methods[method])), arguments)
+
+    def test_values(self):
+        for file, listed in VALUES.items():
+            for name, worth in listed.items():
+                self.assertEqual(getattr(importlib.import_module(f"loadhall.{file}"), name), worth)
 
 
 if __name__ == "__main__":
