@@ -49,6 +49,36 @@ INTERFACE = {
         "Other": "(old, new)",
         "Barred": "(names)",
     },
+    "halls": {
+        "Hall": "(*, path=(), check='stamp')",
+    },
+    "plans": {
+        "ties": "(hall)",
+        "rings": "(hall)",
+        "order": "(hall, name)",
+    },
+    "cuts": {
+        "cut": "(hall)",
+        "apart": "(hall)",
+        "judge_cut": "(hall, some)",
+    },
+    "desk": {
+        "Desk": "(*, path=('a',), check='stamp')",
+    },
+    "quiet": {
+        "loud": "(hall)",
+        "quiet": "(hall)",
+        "put_off": "(hall, text)",
+    },
+    "anew": {
+        "lagging": "(hall)",
+        "anew": "(hall)",
+        "renew": "(hall, *, hand='main')",
+    },
+    "images": {
+        "image": "(hall)",
+        "hall_by": "(text)",
+    },
 }
 
 FIND = {"find": "(self, name, places, hall)"}
@@ -75,11 +105,36 @@ METHODS = {
     "finders.Built": FIND,
     "finders.Other": FIND,
     "finders.Barred": FIND,
+    "halls.Hall": {
+        "tick": "(self, by=1)",
+        "store": "(self, part)",
+        "put": "(self, part, name, text, *, pack=False)",
+        "take": "(self, part, name)",
+        "put_finder": "(self, finder, *, at=0)",
+        "take_finder": "(self, at=0)",
+        "set_path": "(self, path)",
+        "run": "(self, text, *, hand='main')",
+        "worth": "(self, name, part)",
+        "told": "(self)",
+        "names": "(self, name, *, hand=False)",
+        "begin": "(self, hand, text)",
+        "step": "(self, hand)",
+        "hands": "(self)",
+        "mark": "(self)",
+        "back": "(self, number)",
+    },
+    "desk.Desk": {
+        "tell": "(self, line)",
+        "done": "(self)",
+        "refused": "(self)",
+    },
 }
 
 # plain values at the outermost level of files
 VALUES = {
     "forms": {"CHECK": "stamp"},
+    "cuts": {"MOST_TIES": 10},
+    "desk": {"PATH": ("a",)},
 }
 
 
