@@ -31,7 +31,10 @@ def check_finder(finder):
 
 
 class Hall:
-    """A hall; texts are those that the row being done has for the log, by_hand the hands ever begun."""
+    """A hall; table leads names to modules, by_hand tells the hands ever begun by their names.
+
+    texts are those that the log is still to have: a tuple that grew with each of them would be slow.
+    """
 
     def __init__(self, *, path=(), check=CHECK):
         check_path(path)
@@ -123,7 +126,7 @@ class Hall:
         looker = Hand("")
         looker.begin([("look", name, part)])
         self.do_all(looker)
-        return worth_text(looker.had) if not isinstance(looker.had, int) else looker.had
+        return looker.had if isinstance(looker.had, int) else worth_text(looker.had)
 
     def told(self):
         """Tell the names of the table, each with the state of its module."""

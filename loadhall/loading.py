@@ -92,7 +92,6 @@ def give_up(hall, doing):
         module.sums = {}
         module.shown = None
         module.places = None
-        module.rows = ()
 
 
 def end_body(hall, hand, doing):

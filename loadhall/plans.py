@@ -13,7 +13,7 @@ def row_tie(lying, name, row):
         other = row[1]
     elif row[0] == "from":
         other = lying.near(name, row[1])
-    return other if other is not None and lying.lies(other) else None
+    return other if lying.lies(other) else None
 
 
 def name_ties(lying, name):

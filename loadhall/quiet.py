@@ -67,8 +67,8 @@ def comes_to_itself(lying, bars, name):
         want = left.pop()
         if want not in reached:
             reached[want] = True
-            # a want that doesn't lie has no bar, and no wants
-            left.extend(lying.wants(want) if want in bars and bars[want] is None else [])
+            # what is wanted on the way lies, as else the one that wants it would be barred
+            left.extend(lying.wants(want) if bars[want] is None else [])
     return name in reached
 
 

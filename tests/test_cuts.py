@@ -101,7 +101,8 @@ class Judge(HallTest):
 
     def test_no_cuts(self):
         hall = hall_with("ab ba")
-        for some in (None, True, False, 0, 1, "", "ab", (), (("a", "b"),), ["ab"], [["a", "b"]], [("a", "b"), ("a", "b")],
+        for some in (None, True, False, 0, 1, "", "ab", (), (("a", "b"),), ["ab"], [["a", "b"]],
+                     [("a", "b"), ("a", "b")],
                      [("a", "b"), ("a", "c")], [("a", "b", "c")], [("a",)], [()], [None], [("a", "b"), None],
                      [("a", "b"), [("b", "a")]], [[("a", "b")]], [("a", ["b"])], [1, ("a", "b")], [("a", "b"), True]):
             with self.subTest(repr(some)):

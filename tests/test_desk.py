@@ -29,7 +29,8 @@ class Making(DeskTest):
         desk = Desk()
         self.check(desk, ("put a x set n 1", "1"), ("run load x", "x"), ("look x n", "1"))
         desk = Desk(path=("s", "t"), check="sum")
-        self.check(desk, ("put a x set n 1", "1"), ("put t x note 2", "1"), ("put s y load x", "1"), ("run load y", "y"))
+        self.check(desk, ("put a x set n 1", "1"), ("put t x note 2", "1"), ("put s y load x", "1"),
+                   ("run load y", "y"))
         self.assertEqual((desk.done(), desk.refused()), (4, 0))
 
     def test_check(self):
@@ -66,7 +67,8 @@ class Bodies(DeskTest):
 
     def test_whatever_rows(self):
         desk = Desk()
-        for body in ("set N 1", "Z", "set n 1 ; set N 1 ; set n 1", "set n 1; set m 2", "; set n", "x ;", ";", "~ ; ;", "; ;",
+        for body in ("set N 1", "Z", "set n 1 ; set N 1 ; set n 1", "set n 1; set m 2", "; set n", "x ;", ";", "~ ; ;",
+                     "; ;",
                      ";x ; x;", "\"!#&'()*+,-./:<=>?@[]^_`{|}"):
             self.check(desk, (f"put a x {body}", "1"), ("take a x", body))
         # what stands between two rows is taken from left to right
@@ -99,8 +101,10 @@ class Running(DeskTest):
 
     def test_every_kind_of_row(self):
         desk = Desk()
-        for line in ("pack a x set n 1", "put a x.y", "run load x", "run load x as p", "run later x.y as q", "run may z as q",
-                     "run from x take n", "run from x take n as m", "run from x take all", "run again x", "run when p n+1",
+        for line in ("pack a x set n 1", "put a x.y", "run load x", "run load x as p", "run later x.y as q",
+                     "run may z as q",
+                     "run from x take n", "run from x take n as m", "run from x take all", "run again x",
+                     "run when p n+1",
                      "run drop x", "run note 1", "run set p -1+x", "run del p"):
             with self.subTest(line):
                 if line == "run set p -1+x":
@@ -141,7 +145,8 @@ class Running(DeskTest):
 class FindersAndMarks(DeskTest):
     def test_finders(self):
         desk = Desk()
-        self.check(desk, ("bar x", "barred along"), ("other y z", "other barred along"), ("put a x", "1"), ("put a z", "2"),
+        self.check(desk, ("bar x", "barred along"), ("other y z", "other barred along"), ("put a x", "1"),
+                   ("put a z", "2"),
                    ("run load y as p", "p"), ("run note p", "p"), ("log", "3 note main <z>"), ("free", "other"),
                    ("free", "barred"), ("run load x", "p x"), ("free", "along"))
         self.refuse_line(desk, NoFinder, "free")
@@ -193,7 +198,8 @@ class NoLines(DeskTest):
 
     def test_no_form(self):
         desk = Desk()
-        for line in ("", " ", "x", "Tick", "TICK", "ticks", "put", "put a", "pack", "pack a", "take", "take a", "run", "look",
+        for line in ("", " ", "x", "Tick", "TICK", "ticks", "put", "put a", "pack", "pack a", "take", "take a", "run",
+                     "look",
                      "look x", "bar", "other", "other x", "back", "tick 1", "table x", "log 1", "free x", "free 0",
                      "mark 1", "ties a", "rings a", "cut a", "take a x y", "look x n m", "bar x y", "other x y z",
                      "back 1 2", "names", "load x", "set n 1", "step main", "begin"):
@@ -204,7 +210,8 @@ class NoLines(DeskTest):
         desk = Desk()
         desk.tell("put a x set n 1")
         desk.tell("mark")
-        for line in ("put a x", "put a x set n 1 ; set m 1", "pack a x set n 1", "take a x", "tick", "run note 1", "look x n",
+        for line in ("put a x", "put a x set n 1 ; set m 1", "pack a x set n 1", "take a x", "tick", "run note 1",
+                     "look x n",
                      "table", "log", "bar x", "other x y", "mark", "back 0", "ties", "rings", "cut"):
             words = line.split(" ")
             for at in range(len(words) + 1):
@@ -217,7 +224,8 @@ class NoLines(DeskTest):
         bad_parts = [part for part in NO_PARTS if isinstance(part, str)]
         bad_names = [name for name in NO_NAMES if isinstance(name, str)]
         for part in bad_parts:
-            for line in (f"put {part} x", f"put {part} x set n 1", f"pack {part} x", f"take {part} x", f"look x {part}"):
+            for line in (f"put {part} x", f"put {part} x set n 1", f"pack {part} x", f"take {part} x",
+                         f"look x {part}"):
                 self.refuse_line(desk, NoLine, line)
         for name in bad_names:
             for line in (f"put a {name}", f"put a {name} set n 1", f"pack a {name}", f"take a {name}", f"look {name} n",
@@ -231,9 +239,12 @@ class NoLines(DeskTest):
 
     def test_rows_that_are_none(self):
         desk = Desk()
-        for row in ("", "x", "set", "set n", "set N 1", "set n 01", "load", "load A", "load a as", "load a as b c", "note",
-                    "note 1 2", "fail 1", "show", "show a a", "when a", "from a take", "from a", "may a", "later a", "again",
-                    "drop", "drop .a", "look a b", "set n 1 ; set m 2", "step", "set n 1\nset m 2", "from a take all as b"):
+        for row in ("", "x", "set", "set n", "set N 1", "set n 01", "load", "load A", "load a as", "load a as b c",
+                    "note",
+                    "note 1 2", "fail 1", "show", "show a a", "when a", "from a take", "from a", "may a", "later a",
+                    "again",
+                    "drop", "drop .a", "look a b", "set n 1 ; set m 2", "step", "set n 1\nset m 2",
+                    "from a take all as b"):
             with self.subTest(row):
                 self.refuse_line(desk, NoLine, f"run {row}")
         self.assertEqual(desk.tell("run note 1"), "none")
@@ -248,7 +259,8 @@ class Counting(DeskTest):
     def test_done_and_refused(self):
         desk = Desk()
         self.assertEqual((desk.done(), desk.refused()), (0, 0))
-        for line, refused in (("tick", False), ("x", True), (None, True), ("put a x fail why", False), ("run load x", True),
+        for line, refused in (("tick", False), ("x", True), (None, True), ("put a x fail why", False),
+                              ("run load x", True),
                               ("take b x", True), ("table", False), ("back 0", True), ("free", False), ("free", True)):
             done = (desk.done(), desk.refused())
             if refused:

@@ -8,6 +8,9 @@ from loadhall.errors import (
 from loadhall.finders import Along, Barred, Built, Other
 from loadhall.forms import Forms
 from loadhall.halls import Hall
+from loadhall.images import image
+from loadhall.plans import ties
+from loadhall.quiet import quiet
 from loadhall.stores import Lists, Store
 from things import NO_NAMES, NO_NUMBERS, NO_PARTS, NO_TEXTS, HallTest, hall_of, lay, rows
 
@@ -184,6 +187,14 @@ class Paths(HallTest):
         self.check_rows(hall, "load a", ["a 2"])
         hall.set_path(path=())
         self.refuse_row(hall, "load b", NotFound, name="b")
+
+    def test_its_stores_are_made(self):
+        hall = hall_of({"a": ""})
+        hall.set_path(("v", "s"))
+        told = image(hall)
+        self.assertEqual(len(hall.store("v")), 0)
+        self.assertEqual(image(hall), told)
+        self.assertEqual((ties(hall), quiet(hall)), ([], ["a"]))
 
     def test_no_path(self):
         hall = hall_of({"a": ""})

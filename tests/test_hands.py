@@ -189,7 +189,8 @@ class Waits(HallTest):
         self.assertEqual(hall.log, ("begin a", "end a", "note y 2"))
 
     def test_every_row_that_wants(self):
-        for row in ("load a", "load a as z", "may a as z", "later a as z", "from a take n", "from a take all", "again a",
+        for row in ("load a", "load a as z", "may a as z", "later a as z", "from a take n", "from a take all",
+                    "again a",
                     "load a.b", "later a.b as z"):
             hall = hall_of({"a": "set n 1", "a.b": ""}, packs="a")
             hall.begin("x", "load a")

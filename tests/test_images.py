@@ -47,7 +47,8 @@ class Whole(HallTest):
     def test_a_bare_hall(self):
         for hall in (Hall(), Hall(path=("a", "b")), Hall(check="sum")):
             other = self.same(hall)
-            self.assertEqual((other.path, other.forms.check, other.clock, other.log), (hall.path, hall.forms.check, 0, ()))
+            self.assertEqual((other.path, other.forms.check, other.clock, other.log),
+                             (hall.path, hall.forms.check, 0, ()))
             self.assertEqual([finder.word for finder in other.finders], ["along"])
 
     def test_a_busy_hall(self):
@@ -108,7 +109,8 @@ class Whole(HallTest):
     def test_each_deed_changes_it(self):
         hall = busy_hall()
         text = image(hall)
-        for deed in (("tick", {}), ("put", "s", "n", "", {}), ("take", "s", "a", {}), ("store", "v", {}), ("take_finder", {}),
+        for deed in (("tick", {}), ("put", "s", "n", "", {}), ("take", "s", "a", {}), ("store", "v", {}),
+                     ("take_finder", {}),
                      ("put_finder", Along(), {}), ("set_path", (), {}), ("run", "set z 1", {}), ("step", "x", {}),
                      ("begin", "v", "", {}), ("forget", {})):
             other = hall_by(text)
@@ -169,7 +171,8 @@ class Whole(HallTest):
 
     def test_texts_of_every_sign(self):
         hall = Hall()
-        for at, text in enumerate(("".join(SIGNS), "~n", "~~", "\n", "\n~", "<>|", "~|", "None", "i1", "(1", image(Hall()))):
+        for at, text in enumerate(("".join(SIGNS), "~n", "~~", "\n", "\n~", "<>|", "~|", "None", "i1", "(1",
+                                   image(Hall()))):
             hall.put("s", "a" * (at % 8 + 1) + ".b" * (at // 8), text)
         other = self.same(hall)
         for name in hall.store("s").names():
@@ -188,7 +191,8 @@ class Slips(HallTest):
         self.fail(repr(text))
 
     def test_what_is_no_text(self):
-        for thing in NO_TEXTS + [b"", image(Hall()).encode()]:
+        for thing in NO_TEXTS + [b"", image(Hall()).encode(), "", "\ud800", "<>", "<" * 40,
+                                 image(Hall())[:-1] + "\ud800>"]:
             with self.subTest(repr(thing)):
                 self.refuse(NoLine, {}, hall_by, thing)
 

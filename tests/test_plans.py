@@ -17,7 +17,8 @@ class Ties(HallTest):
         self.assertEqual(ties(hall), [("a", other) for other in "bcdefg"])
 
     def test_rows_that_dont(self):
-        hall = hall_of({"a": "later b as x; set b 1; note b; drop b; fail b; show b; when b c; del b", "b": "", "c": ""})
+        hall = hall_of({"a": "later b as x; set b 1; note b; drop b; fail b; show b; when b c; del b", "b": "",
+                        "c": ""})
         lay(hall, {"c": "again b; again a"})
         self.assertEqual(ties(hall), [])
 
@@ -100,7 +101,8 @@ class Ties(HallTest):
 
 class Rings(HallTest):
     def test_lots(self):
-        hall = hall_of({"a": "load b", "b": "load c", "c": "load a; load d", "d": "load e", "e": "load d", "f": "load f",
+        hall = hall_of({"a": "load b", "b": "load c", "c": "load a; load d", "d": "load e", "e": "load d",
+                        "f": "load f",
                         "g": "load a"})
         self.assertEqual(rings(hall), [["a", "b", "c"], ["d", "e"], ["f"]])
 
@@ -119,6 +121,8 @@ class Rings(HallTest):
     def test_rising(self):
         hall = hall_of({"z": "load y", "y": "load z", "b": "load x", "x": "load b", "aa": "load aa"})
         self.assertEqual(rings(hall), [["aa"], ["b", "x"], ["y", "z"]])
+        hall = hall_of({"a": "load d", "c": "load c", "d": "load d"})
+        self.assertEqual(rings(hall), [["c"], ["d"]])
 
 
 class Order(HallTest):

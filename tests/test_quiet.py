@@ -29,10 +29,12 @@ class Words(HallTest):
     def test_no_row(self):
         hall = hall_of({"a": "set N 1", "b": "set n 1; set n 2; note n", "d": "\n", "e": "set n 1; "})
         hall.put("s", "c", "\n".join(["set n 1"] * 13))
-        self.check(hall, ("a", "row", None), ("b", "row", 2), ("c", "row", None), ("d", "row", None), ("e", "row", None))
+        self.check(hall, ("a", "row", None), ("b", "row", 2), ("c", "row", None), ("d", "row", None),
+                   ("e", "row", None))
 
     def test_rows_that_are_loud(self):
-        for row in ("del n", "note n", "fail why", "when n 1", "later b as x", "may b as x", "from b take all", "again b",
+        for row in ("del n", "note n", "fail why", "when n 1", "later b as x", "may b as x", "from b take all",
+                    "again b",
                     "drop b"):
             hall = hall_of({"a": f"set n 1; {row}", "b": ""})
             with self.subTest(row):
@@ -51,7 +53,8 @@ class Words(HallTest):
                    quiet_ones="b g")
 
     def test_all_beginnings_are_wanted(self):
-        hall = hall_of({"a": "", "a.b": "", "a.b.c": "", "d": "load a.b.c.e", "f": "from a.e.c take n"}, packs="a a.b a.b.c")
+        hall = hall_of({"a": "", "a.b": "", "a.b.c": "", "d": "load a.b.c.e", "f": "from a.e.c take n"},
+                       packs="a a.b a.b.c")
         self.check(hall, ("d", "lacks", "a.b.c.e"), ("f", "lacks", "a.e"), quiet_ones="a a.b a.b.c")
 
     def test_a_spread_one_doesnt_lie(self):
@@ -65,9 +68,11 @@ class Words(HallTest):
                    quiet_ones="a")
 
     def test_dots_ahead(self):
-        hall = hall_of({"a": "", "a.b": "from .c take n", "a.c": "set n 1", "a.d": "from . take c", "a.e": "from .. take n",
+        hall = hall_of({"a": "", "a.b": "from .c take n", "a.c": "set n 1", "a.d": "from . take c",
+                        "a.e": "from .. take n",
                         "a.f": "from ..a take n", "a.g": "from .h take n", "i": "from . take n"}, packs="a a.d")
-        self.check(hall, ("a.d", "ring", "a.d"), ("a.e", "lacks", ".."), ("a.f", "lacks", "..a"), ("a.g", "lacks", "a.h"),
+        self.check(hall, ("a.d", "ring", "a.d"), ("a.e", "lacks", ".."), ("a.f", "lacks", "..a"),
+                   ("a.g", "lacks", "a.h"),
                    ("i", "lacks", "."), quiet_ones="a a.b a.c")
 
     def test_too_many_parts(self):
@@ -95,7 +100,8 @@ class Words(HallTest):
 
     def test_no_shadow(self):
         # what is shown isn't set; what lies under no pack isn't beneath it; the first part of a name alone is set
-        hall = hall_of({"a": "show b", "a.b": "", "c": "set b 1", "c.b": "", "d": "load e.b", "d.b": "", "e": "", "e.b": ""},
+        hall = hall_of({"a": "show b", "a.b": "", "c": "set b 1", "c.b": "", "d": "load e.b", "d.b": "", "e": "",
+                        "e.b": ""},
                        packs="a d e")
         self.check(hall, quiet_ones="a a.b c d d.b e e.b")
 
@@ -131,8 +137,10 @@ class Words(HallTest):
         self.check(hall, ("a", "ring", "a"), ("b", "ring", "b"), ("c", "row", 0))
 
     def test_loud_wants(self):
-        hall = hall_of({"a": "load b; load c; load d", "b": "", "c": "note 1", "d": "load z", "e": "load a", "f": "load e"})
-        self.check(hall, ("a", "loud", "c"), ("c", "row", 0), ("d", "lacks", "z"), ("e", "loud", "a"), ("f", "loud", "e"),
+        hall = hall_of({"a": "load b; load c; load d", "b": "", "c": "note 1", "d": "load z", "e": "load a",
+                        "f": "load e"})
+        self.check(hall, ("a", "loud", "c"), ("c", "row", 0), ("d", "lacks", "z"), ("e", "loud", "a"),
+                   ("f", "loud", "e"),
                    quiet_ones="b")
 
     def test_a_loud_elder(self):
@@ -198,8 +206,8 @@ class Words(HallTest):
 class PutOff(HallTest):
     def test_rows(self):
         hall = hall_of({"a": "", "a.b": "", "c": "note 1"}, packs="a")
-        text = rows("set n 1; load a as x; load a; load a.b as y; load c as z; load d as w; may a as v; from a take b; note x; "
-                    "later a as u; again a; drop a; load a as load")
+        text = rows("set n 1; load a as x; load a; load a.b as y; load c as z; load d as w; may a as v; "
+                    "from a take b; note x; later a as u; again a; drop a; load a as load")
         told = text.replace("load a as x", "later a as x").replace("load a.b as y", "later a.b as y")
         self.assertEqual(put_off(hall, text), told.replace("load a as load", "later a as load"))
         self.assertEqual(put_off(hall=hall, text=""), "")
@@ -211,7 +219,8 @@ class PutOff(HallTest):
 
     def test_no_body(self):
         hall = hall_of({"a": ""})
-        for text, row in ((None, None), (True, None), (1, None), (["note 1"], None), ("note", 0), ("note 1\n", 1), (" ", 0),
+        for text, row in ((None, None), (True, None), (1, None), (["note 1"], None), ("note", 0), ("note 1\n", 1),
+                          (" ", 0),
                           ("load a as x\nload a  as y", 1), ("\n".join(["note"] * 41), None)):
             with self.subTest(repr(text)):
                 self.refuse(NoBody, {"row": row, "trail": ()}, put_off, hall, text)

@@ -125,7 +125,8 @@ class Trails(HallTest):
 
     def test_of_a_sum_that_is_kept(self):
         hall = hall_of({"a": "when k n"})
-        self.refuse_row(hall, "load a; note 1; note a.k", Lacking, trail=(("main", 2),), module="a", part="n", half=False)
+        self.refuse_row(hall, "load a; note 1; note a.k", Lacking, trail=(("main", 2),), module="a", part="n",
+                        half=False)
 
     def test_a_part_that_is_lacking_ends_at_its_own_row(self):
         hall = hall_of({"a": "", "a.b": "note 1", "c": "from a take d"}, packs="a")

@@ -35,7 +35,8 @@ class SmallRows(HallTest):
     def test_note(self):
         hall = hall_of({"a": "", "a.b": "note 3; set n 4; note n"}, packs="a")
         hall.run("load a.b as x\nnote x\nnote -5", hand="y")
-        self.assertEqual(hall.log[2:], ("begin a.b", "note a.b 3", "note a.b 4", "end a.b", "note y <a.b>", "note y -5"))
+        self.assertEqual(hall.log[2:], ("begin a.b", "note a.b 3", "note a.b 4", "end a.b", "note y <a.b>",
+                                        "note y -5"))
 
     def test_fail(self):
         hall = hall_of({"a": "note 1; fail why; note 2"})
@@ -128,7 +129,8 @@ class MayRows(HallTest):
         self.assertEqual(hall.told(), [])
 
     def test_deep_within(self):
-        hall = hall_of({"a": "may b as x; note x", "b": "load c; note 2", "c": "set n 1; load d", "d": "note 4; fail why"})
+        hall = hall_of({"a": "may b as x; note x", "b": "load c; note 2", "c": "set n 1; load d",
+                        "d": "note 4; fail why"})
         self.check_rows(hall, "load a", ["d 4", "a 0"])
         self.assertEqual(hall.log, ("begin a", "begin b", "begin c", "begin d", "note d 4", "refuse d", "refuse c",
                                     "refuse b", "note a 0", "end a"))
@@ -254,7 +256,8 @@ class FromRows(HallTest):
         hall = hall_of({"a": "", "a.b": "load c", "a.c": "fail why", "a.d": "from a take e"}, packs="a")
         self.refuse_row(hall, "from a take b", NotFound, trail=(("main", 0), ("a.b", 0)), name="c")
         self.refuse_row(hall, "from a take c", Failed, trail=(("main", 0), ("a.c", 0)), word="why")
-        self.refuse_row(hall, "from a take d", Lacking, trail=(("main", 0), ("a.d", 0)), module="a", part="e", half=False)
+        self.refuse_row(hall, "from a take d", Lacking, trail=(("main", 0), ("a.d", 0)), module="a", part="e",
+                        half=False)
 
     def test_the_name_is_the_rows_own(self):
         hall = hall_of({"a": "", "a.b": "set n 1", "c": "", "c.b": "set n 2"}, packs="a c")

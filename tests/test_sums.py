@@ -29,7 +29,8 @@ class Worths(HallTest):
                         ["main 8", "main -6", "main 24"])
 
     def test_a_name_that_isnt_set(self):
-        self.refuse_row(hall_of({}), "set n 1; note m", Lacking, trail=(("main", 1),), module="main", part="m", half=False)
+        self.refuse_row(hall_of({}), "set n 1; note m", Lacking, trail=(("main", 1),), module="main", part="m",
+                        half=False)
         hall = hall_of({"a": "note m"})
         self.refuse_row(hall, "load a", Lacking, trail=(("main", 0), ("a", 0)), module="a", part="m", half=True)
 

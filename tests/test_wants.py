@@ -328,7 +328,8 @@ class Bodies(HallTest):
 
     def test_bodies_beside_one_another_count_too(self):
         ten = "; ".join(["load a; drop a"] * 6)
-        hall = hall_of({"a": "", "b": ten, "c": "; ".join(["load b; drop b"] * 6), "d": "; ".join(["load c; drop c"] * 5)})
+        hall = hall_of({"a": "", "b": ten, "c": "; ".join(["load b; drop b"] * 6),
+                        "d": "; ".join(["load c; drop c"] * 5)})
         self.refuse(TooDeep, {"name": "a"}, hall.run, "load d")
         begun = [text for text in hall.log if text.startswith("begin")]
         self.assertEqual(len(begun), 200)
